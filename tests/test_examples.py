@@ -1,0 +1,67 @@
+"""The examples of the interface, with just the answers that stand there; names stand for what they were last."""
+
+import doctest
+import unittest
+
+EXAMPLES = """
+>>> from pointrows.forms import Form, letter_forms
+>>> x, y, z = letter_forms()
+>>> conic = x * z - y * y
+>>> [conic, conic.worth((2, 4, 8)), conic.worth([1, 1, 0]), (conic - conic).is_nought, (x + y).times(-2).terms()]
+[Form(2, {(1, 0, 1): 1, (0, 2, 0): -1}), 0, -1, True, {(1, 0, 0): -2, (0, 1, 0): -2}]
+
+>>> from pointrows.products import common_form, no_common, primitive, put_in, quotient, slope, triples
+>>> [triples(1), slope(conic, "y"), primitive((z - x).times(6)), put_in(conic, [[1, 0, 0], [0, 1, 0], [1, 0, 1]])]
+[[(1, 0, 0), (0, 1, 0), (0, 0, 1)], Form(1, {(0, 1, 0): -2}), Form(1, {(1, 0, 0): 1, (0, 0, 1): -1}), Form(2, {(2, 0, 0): 1, (1, 0, 1): 1, (0, 2, 0): -1})]
+>>> [quotient((x * x - y * y).times(2), (x + y).times(3)) == x - y, common_form(x * x - y * y, (x + y) * z) == x + y, no_common(conic, x), quotient(conic, x)]
+[True, True, True, None]
+
+>>> from pointrows.points import Spots, is_point, same_points, told_point
+>>> spots = Spots([(0, 0, 1), (2, 0, 2), [0, -3, -3], (1, 1, 1)])
+>>> [is_point((0, 0, 0)), told_point([0, -4, 6]), spots.points(), spots.place((3, 3, 3))]
+[False, (0, 2, -3), [(0, 0, 1), (1, 0, 1), (0, 1, 1), (1, 1, 1)], 3]
+>>> [spots.without(0).size, same_points(spots, Spots(spots.points()[::-1])), Spots([(2, 0, 0)])]
+[3, True, Spots([(1, 0, 0)])]
+
+>>> from pointrows.lines import line_through, lines_of, meet, passed
+>>> across, slant = line_through((1, 0, 1), (0, 1, 1)), line_through((0, 0, 1), (1, 1, 1))
+>>> [across.terms(), meet(across, slant), passed(spots, across)]
+[{(1, 0, 0): 1, (0, 1, 0): 1, (0, 0, 1): -1}, (1, 1, 2), [1, 2]]
+>>> [lines_of(spots), lines_of(spots.with_point((1, 1, 2)))]
+[[], [[0, 3, 4], [1, 2, 4]]]
+
+>>> from pointrows.tables import behind, form_moved, four_table, is_table, led, moved, undone_table
+>>> turn = [[0, -1, 0], [1, 0, 0], [0, 0, 1]]
+>>> [led(turn, (1, 2, 1)), undone_table(turn), behind(turn, turn)]
+[(2, -1, -1), ((0, 1, 0), (-1, 0, 0), (0, 0, 1)), ((1, 0, 0), (0, 1, 0), (0, 0, -1))]
+>>> [moved(spots, turn).points()[1:], form_moved(across, turn).terms(), four_table(spots)]
+[[(0, 1, 1), (1, 0, -1), (1, -1, -1)], {(1, 0, 0): 1, (0, 1, 0): -1, (0, 0, 1): 1}, ((0, 1, 0), (0, 0, 1), (-1, 1, 1))]
+
+>>> from pointrows.conditions import conditions, forms_through, is_forms_through
+>>> from pointrows.forms import Form
+>>> from pointrows.points import Spots
+>>> grid = Spots([(0, 0, 1), (0, 1, 1), (0, 2, 1), (1, 0, 1), (1, 1, 1), (1, 2, 1), (2, 0, 1), (2, 1, 1), (2, 2, 1)])
+>>> bent = Spots([(0, 0, 1), (1, 0, 1), (2, 0, 1), (0, 1, 1)])
+>>> [conditions(grid, 2), conditions(grid, 3), conditions(grid, 4), len(forms_through(grid, 3)), forms_through(bent, 1)]
+[6, 8, 9, 2, []]
+>>> is_forms_through(bent, 2, [Form(2, {(1, 1, 0): 1}), Form(2, {(0, 2, 0): 1, (0, 1, 1): -1})])
+True
+
+>>> from pointrows.rows import count_through, end, row, top
+>>> [row(grid), row(bent), end(grid), top(bent), count_through(grid, 3)]
+[[1, 2, 3, 2, 1], [1, 2, 1], 4, 2, 2]
+"""
+
+
+class Examples(unittest.TestCase):
+
+    def test_all(self):
+        examples = doctest.DocTestParser().get_doctest(EXAMPLES, {}, "examples", "test_examples.py", 0)
+        told = []
+        doctest.DocTestRunner().run(examples, out=told.append)
+        self.assertEqual("".join(told), "")
+        self.assertEqual(len(examples.examples), EXAMPLES.count(">>>"))
+
+
+if __name__ == "__main__":
+    unittest.main()

@@ -1,0 +1,56 @@
+"""What the interface lists is there, defined in the file under which it is listed, with these parameters."""
+
+import importlib
+import inspect
+import unittest
+
+LISTED = {
+    "basics": {"is_integer": "value", "is_count": "value", "is_list": "value"},
+    "forms": {"is_triple": "value", "letter_forms": "", "Form": "degree terms"},
+    "products": {"triples": "degree", "slope": "form letter", "put_in": "form table", "primitive": "form",
+                 "quotient": "form other", "common_form": "form other", "no_common": "form other"},
+    "points": {"is_point": "value", "told_point": "point", "Spots": "points", "same_points": "spots other"},
+    "lines": {"line_through": "point other", "meet": "line other", "passed": "spots form", "lines_of": "spots"},
+    "tables": {"is_table": "value", "led": "table point", "undone_table": "table", "behind": "table other",
+               "moved": "spots table", "form_moved": "form table", "four_table": "spots"},
+    "conditions": {"conditions": "spots degree", "forms_through": "spots degree",
+                   "is_forms_through": "spots degree value"},
+    "rows": {"row": "spots", "end": "spots", "top": "spots", "count_through": "spots degree"},
+}
+METHODS = {
+    ("forms", "Form"): {"terms": "self", "times": "self number", "worth": "self point", "__add__": "self other",
+                        "__sub__": "self other", "__neg__": "self", "__mul__": "self other", "__eq__": "self other",
+                        "__repr__": "self", "__init__": "self degree terms"},
+    ("points", "Spots"): {"points": "self", "place": "self point", "without": "self position",
+                          "with_point": "self point", "__eq__": "self other", "__repr__": "self",
+                          "__init__": "self points"},
+}
+PROPERTIES = {("forms", "Form"): ("degree", "is_nought"), ("points", "Spots"): ("size",)}
+
+
+def parameters(function):
+    """The names of the parameters, with blanks between."""
+    return " ".join(inspect.signature(function).parameters)
+
+
+class Interface(unittest.TestCase):
+
+    def test_functions_and_classes(self):
+        for file, names in LISTED.items():
+            module = importlib.import_module("pointrows." + file)
+            for name, wanted in names.items():
+                told = getattr(module, name)
+                self.assertEqual(told.__module__, "pointrows." + file, name)
+                self.assertEqual(parameters(told), wanted, name)
+
+    def test_methods(self):
+        for (file, name), methods in METHODS.items():
+            made = vars(getattr(importlib.import_module("pointrows." + file), name))
+            for method, wanted in methods.items():
+                self.assertEqual(parameters(made[method]), wanted, method)
+            for told in PROPERTIES[file, name]:
+                self.assertIsInstance(made[told], property)
+
+
+if __name__ == "__main__":
+    unittest.main()
