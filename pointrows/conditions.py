@@ -2,8 +2,9 @@
 
 from pointrows.basics import is_list
 from pointrows.checks import check_degree
-from pointrows.elimination import kernel, rank
+from pointrows.elimination import rank
 from pointrows.forms import Form
+from pointrows.kernels import kernel
 from pointrows.lines import passed
 from pointrows.plain import plain
 from pointrows.points import check_spots
@@ -30,7 +31,7 @@ def conditions(spots, degree):
 
 
 def forms_through(spots, degree):
-    """Independent plain forms of the degree, of which all forms that pass all points are sums of multiples."""
+    """Independent plain forms of the degree, of which all that pass all points are sums of multiples, short ones."""
     check_spots_degree(spots, degree)
     triples = triples_of(degree)
     return [Form(degree, terms_of(triples, plain(numbers)))

@@ -1,25 +1,29 @@
-"""Independent rows of INTEGERS, and what comes to 0 with all of them; reckoned without fractions."""
+"""Independent rows and columns of INTEGERS, and rows solved for some of their places; reckoned without fractions."""
 
-from heapq import heapify, heappop, heappush
+from math import gcd
 
-from pointrows.threes import dot
+from pointrows.plain import plain
 
-# Rows that are independent modulo a prime are so by fractions, too; the other way round only mostly.
+# Columns that are independent modulo a prime are so by fractions, too; the other way round only mostly.
 PRIME = 2305843009213693951
 
 
 def rank(rows):
     """How many of the rows are independent: none of these is a sum of multiples, by fractions, of others."""
+    return len(independent_columns(rows))
+
+
+def independent_columns(rows):
+    """The places, rising, of independent columns of the rows, as many as can be."""
     most = min(len(rows), len(rows[0])) if rows else 0
-    if rank_by(rows, PRIME) == most:
-        return most
-    return rank_by(rows, 0)
+    places = columns_by(rows, PRIME)
+    return places if len(places) == most else columns_by(rows, 0)
 
 
-def rank_by(rows, prime):
-    """How many of the rows are independent modulo the prime; by fractions if it is 0."""
-    left, last, found = [list(row) for row in rows], 1, 0
-    while left and left[0]:
+def columns_by(rows, prime):
+    """The places of the columns that are independent of those ahead modulo the prime; by fractions if it is 0."""
+    left, last, places = [list(row) for row in rows], 1, []
+    for place in range(len(rows[0]) if rows else 0):
         first = first_place(left, prime)
         if first is None:
             left = [row[1:] for row in left]
@@ -27,8 +31,8 @@ def rank_by(rows, prime):
             pivot = left[first]
             left = [cleared(row, pivot, last, prime) for row in left[:first] + left[first + 1:]]
             last = pivot[0]
-            found += 1
-    return found
+            places.append(place)
+    return places
 
 
 def first_place(rows, prime):
@@ -48,37 +52,39 @@ def cleared(row, pivot, last, prime):
     return [number % prime for number in numbers]
 
 
-def kernel(rows, width):
-    """Independent lists of as many INTEGERS as the width, of which all that come to 0 with each row are sums."""
-    found = [[1 if place == at else 0 for place in range(width)] for at in range(width)]
-    for row in rows:
-        found = vanishing(found, row)
-    return found
+def solved(rows, width):
+    """The places of independent columns, the first ones, and for each one a row with 0 at all the others.
 
-
-def vanishing(lists, row):
-    """Independent sums of multiples of the independent lists, as many as can be, that come to 0 with the row.
-
-    Multiples by INTEGERS alone are taken off, the list that comes to most with the row less the one that comes to
-    most of the others, till all but one come to 0: so the numbers stay much shorter than with fractions.
+    Just what comes to 0 with all these plain rows does so with all the rows that are passed; and the first number of
+    a row that is not 0 is the one at its own place.
     """
-    worths = [dot(numbers, row) for numbers in lists]
-    found = [numbers for numbers, worth in zip(lists, worths) if worth == 0]
-    queue = [(-abs(worth), signed(numbers, worth)) for numbers, worth in zip(lists, worths) if worth != 0]
-    heapify(queue)
-    while len(queue) > 1:
-        worth, numbers = heappop(queue)
-        other_worth, others = queue[0]
-        times = (2 * worth + other_worth) // (2 * other_worth)
-        worth = worth - times * other_worth
-        numbers = [number - times * other for number, other in zip(numbers, others)]
-        if worth == 0:
-            found.append(numbers)
-        else:
-            heappush(queue, (-abs(worth), signed(numbers, -worth)))
-    return found
+    left = plain_ones(rows)
+    places, done = [], []
+    for place in range(width):
+        pivots = [row for row in left if row[place] != 0]
+        if pivots:
+            pivot = pivots[0]
+            behind = [row for row in left if row[place] == 0] + pivots[1:]
+            left = plain_ones([without_place(row, pivot, place) for row in behind])
+            done = plain_ones([without_place(row, pivot, place) for row in done]) + [pivot]
+            places.append(place)
+    return places, done
 
 
-def signed(numbers, sign):
-    """The numbers, taken times -1 if the sign is below 0."""
-    return [-number for number in numbers] if sign < 0 else numbers
+def plain_ones(rows):
+    """The rows that are not all 0, plain: divided by their common divisors the numbers stay shorter."""
+    return [plain(row) for row in rows if any(row)]
+
+
+def without_place(row, pivot, place):
+    """A multiple of the row, less one of the pivot, with 0 at the place."""
+    if row[place] == 0:
+        return row
+    common = gcd(row[place], pivot[place])
+    times, off = pivot[place] // common, row[place] // common
+    return [times * number - off * other for number, other in zip(row, pivot)]
+
+
+def units(many):
+    """As many lists as told, of as many numbers: 1 at the list's own place, else 0."""
+    return [[1 if place == at else 0 for place in range(many)] for at in range(many)]

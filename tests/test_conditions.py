@@ -3,9 +3,10 @@
 import unittest
 
 from pointrows.conditions import conditions, forms_through, is_forms_through
-from pointrows.elimination import PRIME, kernel, rank
+from pointrows.elimination import PRIME, rank
 from pointrows.errors import InvalidDegree, InvalidSpots
 from pointrows.forms import Form, letter_forms
+from pointrows.kernels import kernel
 from pointrows.points import Spots
 from pointrows.tables import form_moved, moved
 from tests.helpers import (NO_INTEGERS, NO_SPOTS, draw_points, draw_table, draws, look_at_parameters, no_degrees,
@@ -144,6 +145,20 @@ class FormsThrough(unittest.TestCase):
                 self.assertEqual([worth_by_hand(form, point) for point in spots.points()], [0] * many)
                 self.assertLess(max(abs(number) for number in form.terms().values()), 10 ** 600)
             self.assertIs(is_forms_through(spots, degree, forms), True)
+
+    def test_longer_numbers(self):
+        # There are forms with far fewer digits, for points that tables lead away from short ones.
+        source = draws(163)
+        spots = Spots(draw_points(source, 24, 999999))
+        for degrees in ((6, 7, 8, 9), (6, 7), (6,)):
+            spots = moved(spots, draw_table(source, 999999))
+            for degree in degrees:
+                forms = forms_through(spots, degree)
+                self.assertEqual(len(forms), len(triples_by_hand(degree)) - 24)
+                self.assertIs(is_forms_through(spots, degree, forms), True)
+                for form in forms:
+                    self.assertLess(max(abs(number) for number in form.terms().values()), 10 ** 600)
+        self.assertEqual(forms_through(spots, 6), forms)
 
     def test_moved(self):
         table = draw_table(draws(162), 5)
