@@ -50,6 +50,37 @@ True
 >>> from pointrows.rows import count_through, end, row, top
 >>> [row(grid), row(bent), end(grid), top(bent), count_through(grid, 3)]
 [[1, 2, 3, 2, 1], [1, 2, 1], 4, 2, 2]
+
+>>> from pointrows.sums import comes_of, independent, is_independent, is_sum, is_sums, sums
+>>> [is_sum(grid, 3, [1, -2, 1, -2, 4, -2, 1, -2, 1]), len(sums(grid, 3)), len(sums(grid, 2)), sums(grid, 4)]
+[True, 1, 3, []]
+>>> [is_independent(bent, 1, [0, 1, 3]), is_independent(bent, 1, [0, 1, 2]), is_sums(bent, 1, [[1, -2, 1, 0]]), comes_of(bent, 3, 1), independent(bent, 2)]
+[True, False, True, None, [0, 1, 2, 3]]
+
+>>> from pointrows.parting import is_parting, part_degree, part_degrees, parting_form
+>>> from pointrows.points import Spots
+>>> from pointrows.forms import Form
+>>> four, line = Spots([(0, 0, 1), (1, 0, 1), (2, 0, 1), (0, 1, 1)]), Form(1, {(0, 1, 0): 1})
+>>> [part_degrees(four), part_degree(four, 3), parting_form(four, 0, 1), is_parting(four, 3, parting_form(four, 3, 1))]
+[[2, 2, 2, 1], 1, None, True]
+>>> [is_parting(four, 3, line), is_parting(four, 0, line), is_parting(four, 3, line * line)]
+[True, False, True]
+
+>>> from pointrows.sheds import all_late, early, is_early, late_rows, row_without
+>>> [row_without(four, 3), row_without(four, 0), late_rows(four), all_late(four), early(four)[0]]
+[[1, 1, 1], [1, 2], [[1, 1, 1], [1, 2]], False, 3]
+>>> [is_early(four, (3, line)), is_early(four, (0, line)), is_early(four, (3, line * line)), all_late(Spots([(0, 0, 1)]))]
+[True, False, False, True]
+
+>>> from pointrows.possible import box, box_of, fault, is_mirrored, is_row, mirrored
+>>> [is_row([1, 2, 3, 2, 1]), is_row([1, 3]), fault([1, 2, 1, 2]), fault([1, 2, 2]), fault([0])]
+[True, False, 3, None, 0]
+>>> [mirrored([1, 2, 2]), is_mirrored([1, 2, 1]), box(3, 2), box_of([1, 2, 3, 2, 1]), box_of([1, 2, 2])]
+[[2, 2, 1], True, [1, 2, 2, 1], (3, 3), None]
+
+>>> from pointrows.stairs import lengths, row_by, stair
+>>> [stair([1, 2, 1]).points(), lengths([1, 2, 3, 2, 1]), row_by([4, 1])]
+[[(0, 0, 1), (1, 0, 1), (0, 1, 1), (2, 0, 1)], [5, 3, 1], [1, 2, 1, 1]]
 """
 
 

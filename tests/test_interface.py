@@ -16,6 +16,15 @@ LISTED = {
     "conditions": {"conditions": "spots degree", "forms_through": "spots degree",
                    "is_forms_through": "spots degree value"},
     "rows": {"row": "spots", "end": "spots", "top": "spots", "count_through": "spots degree"},
+    "sums": {"independent": "spots degree", "is_independent": "spots degree value", "sums": "spots degree",
+             "is_sums": "spots degree value", "is_sum": "spots degree value", "comes_of": "spots position degree"},
+    "parting": {"part_degree": "spots position", "part_degrees": "spots", "parting_form": "spots position degree",
+                "is_parting": "spots position value"},
+    "sheds": {"row_without": "spots position", "all_late": "spots", "early": "spots", "is_early": "spots value",
+              "late_rows": "spots"},
+    "possible": {"is_row": "value", "fault": "value", "mirrored": "row", "is_mirrored": "row", "box": "first second",
+                 "box_of": "row"},
+    "stairs": {"stair": "row", "lengths": "row", "row_by": "lengths"},
 }
 METHODS = {
     ("forms", "Form"): {"terms": "self", "times": "self number", "worth": "self point", "__add__": "self other",
