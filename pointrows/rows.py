@@ -10,6 +10,11 @@ MOST_END = 8
 
 def row(spots):
     """The row, a list."""
+    return numbers_of(spots)
+
+
+def numbers_of(spots):
+    """The row, by a name that is free where a parameter is called row."""
     counts = rising_counts(spots)
     return [count - ahead for count, ahead in zip(counts, [0] + counts)]
 

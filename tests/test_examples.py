@@ -81,6 +81,34 @@ True
 >>> from pointrows.stairs import lengths, row_by, stair
 >>> [stair([1, 2, 1]).points(), lengths([1, 2, 3, 2, 1]), row_by([4, 1])]
 [[(0, 0, 1), (1, 0, 1), (0, 1, 1), (2, 0, 1)], [5, 3, 1], [1, 2, 1, 1]]
+
+>>> from pointrows.counted import partings, row_count, rows_of
+>>> [rows_of(5), row_count(10), partings(10)]
+[[[1, 1, 1, 1, 1], [1, 2, 1, 1], [1, 2, 2]], 9, 9]
+
+>>> from pointrows.still import row_off, row_on, still_places
+>>> from pointrows.points import Spots
+>>> far = Spots([(0, 0, 1), (1, 0, 1), (2, 0, 1), (3, 0, 1), (0, 1, 1)])
+>>> [still_places(far), row_on([1, 2, 1, 1], 2), row_off([1, 2, 1, 1], 2), row_on([1, 2, 3, 3, 1, 1, 1], 4), row_off([1, 2, 3, 3, 1, 1, 1], 4)]
+[[2], [1, 1, 1, 1], [1], [1, 1, 1, 1, 1, 1, 1], [1, 2, 2]]
+
+>>> from pointrows.forms import Form
+>>> from pointrows.hidden import hidden_form, hidden_points
+>>> bow = Spots([(1, 0, 0), (1, 1, 1), (1, 2, 4), (1, 3, 9), (1, -1, 1), (1, -2, 4), (1, -3, 9), (0, 0, 1)])
+>>> [hidden_form(far, 2) == Form(1, {(0, 1, 0): 1}), hidden_points(far, 2), hidden_form(bow, 2) == Form(2, {(1, 0, 1): 1, (0, 2, 0): -1}), hidden_points(bow, 2)[1]]
+[True, ([0, 1, 2, 3], [4]), True, []]
+
+>>> from pointrows.few import fails, is_why_fails, why_fails
+>>> [fails(far, 2), fails(far, 3), is_why_fails(far, 2, why_fails(far, 2)), why_fails(far, 2)[2], why_fails(bow, 4)]
+[True, False, True, [0, 1, 2, 3], None]
+>>> [why_fails(bow, 3)[0], is_why_fails(bow, 3, ("conic", Form(2, {(0, 2, 0): 2, (1, 0, 1): -2}), list(range(8)))), is_why_fails(far, 2, ("line", Form(1, {(0, 1, 0): 3}), (3, 2, 1, 0))), is_why_fails(far, 2, ("line", Form(1, {(0, 1, 0): 1}), [0, 1, 2]))]
+['conic', True, True, False]
+
+>>> from pointrows.pairs import box_degrees, is_pair
+>>> x, y, z = letter_forms()
+>>> square, bars = Spots([(0, 0, 1), (0, 1, 1), (1, 0, 1), (1, 1, 1)]), Spots([(0, 0, 1), (1, 0, 1), (2, 0, 1), (0, 1, 1)])
+>>> [is_pair(square, (x * x - x * z, y * y - y * z)), is_pair(square, (x * x - x * z, x * x - x * z)), box_degrees(bars)]
+[True, False, (2, 2)]
 """
 
 

@@ -25,6 +25,11 @@ LISTED = {
     "possible": {"is_row": "value", "fault": "value", "mirrored": "row", "is_mirrored": "row", "box": "first second",
                  "box_of": "row"},
     "stairs": {"stair": "row", "lengths": "row", "row_by": "lengths"},
+    "counted": {"rows_of": "many", "row_count": "many", "partings": "many"},
+    "still": {"still_places": "spots", "row_on": "row place", "row_off": "row place"},
+    "hidden": {"hidden_form": "spots place", "hidden_points": "spots place"},
+    "few": {"fails": "spots degree", "why_fails": "spots degree", "is_why_fails": "spots degree value"},
+    "pairs": {"is_pair": "spots value", "box_degrees": "spots"},
 }
 METHODS = {
     ("forms", "Form"): {"terms": "self", "times": "self number", "worth": "self point", "__add__": "self other",
