@@ -27,8 +27,9 @@ def part_degree(spots, position):
 def part_degrees(spots):
     """The list of the least degrees at which the points are parted from the others, by positions."""
     # At the end of the row no point is left in a sum, so each one finds its degree.
-    found = [end(spots)] * spots.size
-    for degree in reversed(range(found[0])):
+    last = end(spots)
+    found = [last] * spots.size
+    for degree in reversed(range(last)):
         for position in parted_positions(spots, degree):
             found[position] = degree
     return found

@@ -7,6 +7,7 @@ from pointrows.conditions import conditions
 from pointrows.errors import InvalidDegree, InvalidSpots, NotFew
 from pointrows.few import fails, is_why_fails, why_fails
 from pointrows.forms import Form, letter_forms
+from pointrows.lines import line_through, lines_of, meet
 from pointrows.points import Spots
 from pointrows.tables import form_moved, moved
 from tests.helpers import (NO_COUNTS, NO_FORMS, NO_SPOTS, Odd, draw_points, draw_table, draws, look_at_parameters,
@@ -104,6 +105,20 @@ class WhyFails(unittest.TestCase):
         self.assertIsNone(self.look(spots, 7))
         both = Spots([(i, 0, 1) for i in range(1, 7)] + [(0, i, 1) for i in range(1, 6)])
         self.assertEqual(self.look(both, 4), "line")
+
+    def test_the_line_with_short_numbers_is_told(self):
+        # Two lines hold six of the eleven points each; the numbers of the first one have 700 digits.
+        source = draws(734)
+        one, two = [tuple(source.randrange(10 ** 350) for _ in range(3)) for _ in range(2)]
+        far = [tuple(a + i * b for a, b in zip(one, two)) for i in range(5)]
+        both = meet(line_through(one, two), Y)
+        spots = Spots(far + [both] + [(i, 0, 1) for i in range(5)])
+        self.assertEqual(lines_of(spots), [[0, 1, 2, 3, 4, 5], [5, 6, 7, 8, 9, 10]])
+        self.assertEqual(self.look(spots, 4), "line")
+        self.assertEqual(why_fails(spots, 4), ("line", Y, [5, 6, 7, 8, 9, 10]))
+        long = line_through(one, two)
+        self.assertGreater(max(abs(number) for number in long.terms().values()), 10 ** 600)
+        self.assertIs(is_why_fails(spots, 4, ("line", long, [0, 1, 2, 3, 4, 5])), True)
 
     def test_conics(self):
         source = draws(732)

@@ -4,7 +4,7 @@ import unittest
 
 from pointrows.errors import InvalidPosition, InvalidSpots, OneLeft, TooMany
 from pointrows.forms import Form, letter_forms
-from pointrows.parting import part_degrees
+from pointrows.parting import part_degrees, parting_form
 from pointrows.points import Spots
 from pointrows.rows import end, row
 from pointrows.sheds import all_late, early, is_early, late_rows, row_without
@@ -109,6 +109,24 @@ class EarlyAndLate(unittest.TestCase):
         for _ in range(3):
             spots = moved(spots, draw_table(source, 999999))
         self.assertIsNotNone(self.look(spots))
+
+    def test_a_point_with_a_short_form_is_told(self):
+        # The only form below the end that parts the first point has numbers of 700 digits, those of others have 350.
+        source = draws(664)
+        far = [tuple(source.randrange(10 ** 350) for _ in range(3)) for _ in range(2)]
+        spots = Spots([(0, 1, 1)] + [(i, 0, 1) for i in range(4)] + far)
+        self.assertEqual([row(spots), part_degrees(spots)], [[1, 2, 3, 1], [2, 3, 3, 3, 3, 2, 2]])
+        long = max(abs(number) for number in parting_form(spots, 0, 2).terms().values())
+        self.assertGreater(long, 10 ** 600)
+        self.assertIn(self.look(spots)[0], (5, 6))
+
+    def test_the_shortest_form_is_told_if_all_are_long(self):
+        source = draws(665)
+        far = [tuple(source.randrange(10 ** 700) for _ in range(3)) for _ in range(2)]
+        spots = Spots([(0, 1, 1)] + [(i, 0, 1) for i in range(4)] + far)
+        position, form = early(spots)
+        self.assertIn(position, (5, 6))
+        self.assertIs(is_early(spots, (position, form)), True)
 
     def test_is_early(self):
         self.assertIs(is_early(BENT, (3, Y)), True)
