@@ -4,7 +4,7 @@ from pointrows.basics import is_list
 from pointrows.checks import check_degree
 from pointrows.elimination import rank
 from pointrows.forms import Form
-from pointrows.kernels import kernel
+from pointrows.kernels import greatest, kernel
 from pointrows.lines import passed
 from pointrows.plain import plain
 from pointrows.points import check_spots
@@ -58,3 +58,8 @@ def form_numbers(form):
     """The list of the form's numbers for all triples of its degree, falling."""
     terms = form.terms()
     return [terms.get(triple, 0) for triple in triples_of(form.degree)]
+
+
+def form_size(form):
+    """The greatest number of a form that is not nought, whatever its sign."""
+    return greatest(form_numbers(form))

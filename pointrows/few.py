@@ -1,10 +1,9 @@
 """Points that fail to make independent conditions, and the line or the conic that holds too many of few ones."""
 
 from pointrows.basics import is_count, is_list
-from pointrows.conditions import check_spots_degree, conditions, forms_through
+from pointrows.conditions import check_spots_degree, conditions, form_size, forms_through
 from pointrows.errors import InvalidDegree, NotFew
 from pointrows.forms import Form
-from pointrows.kernels import greatest
 from pointrows.lines import line_through, lines_of, passed
 from pointrows.points import Spots
 from pointrows.sums import parted_positions
@@ -20,12 +19,17 @@ def fails(spots, degree):
 def why_fails(spots, degree):
     """A why, its positions rising; None if the points do not fail at the degree."""
     check_why_degree(spots, degree)
-    if spots.size > max(3, 3 * degree - 1):
+    if not is_few(spots, degree):
         raise NotFew()
     if not fails(spots, degree):
         return None
     whys = [line_why(spots, degree, on_line) for on_line in lines_of(spots) if len(on_line) >= too_many("line", degree)]
     return min(whys, key=size_of) if whys else conic_why(spots, degree)
+
+
+def is_few(spots, degree):
+    """Whether the points are so few that a line or a conic holds too many of them if they fail at the degree."""
+    return spots.size <= max(3, 3 * degree - 1)
 
 
 def check_why_degree(spots, degree):
@@ -49,7 +53,7 @@ def line_why(spots, degree, on_line):
 
 def size_of(why):
     """The greatest number of the form of the why."""
-    return greatest(list(why[1].terms().values()))
+    return form_size(why[1])
 
 
 def conic_why(spots, degree):

@@ -24,9 +24,14 @@ def meet(line, other):
     return told_point(point)
 
 
+def is_line(value):
+    """Whether any value is a line: a form of degree 1 that is not nought."""
+    return isinstance(value, Form) and value.degree == 1 and not value.is_nought
+
+
 def line_numbers(line):
     """The list of the three numbers of a line; InvalidLine unless it is one."""
-    if not isinstance(line, Form) or line.degree != 1 or line.is_nought:
+    if not is_line(line):
         raise InvalidLine(line)
     terms = line.terms()
     return [terms.get(triple, 0) for triple in LETTER_TRIPLES]

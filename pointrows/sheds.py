@@ -1,12 +1,13 @@
 """Rows that are left when a point is taken away, and points that are parted early."""
 
 from pointrows.basics import is_count
+from pointrows.conditions import form_size
 from pointrows.errors import OneLeft
 from pointrows.forms import Form
-from pointrows.kernels import greatest
 from pointrows.parting import check_spots_position, is_parting, part_degree, part_degrees, parting_form
 from pointrows.points import check_spots
 from pointrows.rows import end, row
+from pointrows.sums import parted_positions
 
 # Numbers of so many bits have at most 600 digits: more must not be told where fewer would do.
 MOST_BITS = 1993
@@ -33,7 +34,9 @@ def shed(numbers, degree):
 
 def all_late(spots):
     """Whether all points are parted from the others at the end of the row only."""
-    return min(part_degrees(spots)) == end(spots)
+    last = end(spots)
+    # A point that is parted at a degree is so at all greater ones.
+    return last == 0 or len(parted_positions(spots, last - 1)) == 0
 
 
 def early(spots):
@@ -54,7 +57,7 @@ def early(spots):
 
 def size_of(paper):
     """The greatest number of the paper's form."""
-    return greatest(list(paper[1].terms().values()))
+    return form_size(paper[1])
 
 
 def is_early(spots, value):

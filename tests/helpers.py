@@ -34,6 +34,14 @@ NO_FORMS = NO_INTEGERS + [0, 7, Form, {(1, 0, 0): 1}, (1, {(1, 0, 0): 1}), Spots
 NO_SPOTS = NO_INTEGERS + [0, 7, Spots, [(0, 0, 1)], ((0, 0, 1), (1, 0, 1)), Form(1, {(1, 0, 0): 1})]
 NO_LINES = NO_FORMS + [Form(1, {}), Form(0, {(0, 0, 0): 1}), Form(2, {(2, 0, 0): 1}), (1, 0, 0)]
 
+def no_position_lists(size):
+    """Values that are no list of unlike positions among as many as the size, not of all."""
+    return [value for value in NO_INTEGERS if not isinstance(value, (list, tuple))] + [
+        0, 1, {0}, "0", {0: 1}, [size], [-1], [0, 0], [1, 0, 1], [True], [False], (0, True), ["0"], [None], [[0]], [(0,)],
+        [Odd()], [10 ** 29], list(range(size)), tuple(range(size))[::-1], list(range(size + 1)), [0, 0] + [1] * (size - 2),
+        Spots([(0, 0, 1)]),
+    ]
+
 
 def no_degrees(most):
     """Values that are no degree up to the greatest one."""

@@ -109,6 +109,37 @@ True
 >>> square, bars = Spots([(0, 0, 1), (0, 1, 1), (1, 0, 1), (1, 1, 1)]), Spots([(0, 0, 1), (1, 0, 1), (2, 0, 1), (0, 1, 1)])
 >>> [is_pair(square, (x * x - x * z, y * y - y * z)), is_pair(square, (x * x - x * z, x * x - x * z)), box_degrees(bars)]
 [True, False, (2, 2)]
+
+>>> from pointrows.verdicts import is_all, is_why_not, pair, why_not
+>>> [is_all(square), is_pair(square, pair(square)), why_not(square), is_all(bars), pair(bars), is_why_not(bars, why_not(bars))]
+[True, True, None, False, None, True]
+>>> [is_why_not(bars, ("parted", 3, y)), is_why_not(bars, ("parted", 0, y)), is_why_not(bars, ("ends", 0))]
+[True, False, False]
+
+>>> from pointrows.nets import meets, net, net_pair
+>>> [net([x, x - z], (y, y - z)) == square, net_pair([x, x - z], [y, y - z]) == (x * x - x * z, y * y - y * z)]
+[True, True]
+>>> [meets(x * x - x * z, y * y - y * z, square), meets(x, y, square), net([x], [y]).points()]
+[True, False, [(0, 0, 1)]]
+
+>>> from pointrows.forms import Form
+>>> from pointrows.left import is_last, rest, rest_row
+>>> from pointrows.points import Spots
+>>> nine = Spots([[i, j, 1] for i in range(3) for j in range(3)])
+>>> [rest_row(nine, [0]), rest_row(nine, [0, 1, 2]), rest(nine, [0, 1, 2, 3, 4, 5, 6]).points(), rest_row(nine, [])]
+[[1, 2, 3, 2], [1, 2, 2, 1], [(2, 1, 1), (2, 2, 1)], [1, 2, 3, 2, 1]]
+>>> [is_last(nine, 0, Form(3, {(3, 0, 0): 1, (2, 0, 1): -3, (1, 0, 2): 2})), is_last(nine, 0, Form(3, {(0, 0, 3): 1})), is_last(nine, 0, None)]
+[True, False, False]
+
+>>> from pointrows.ninth import is_ninth, ninth
+>>> [ninth(rest(nine, [4])), is_ninth(rest(nine, [0]), [0, 0, 5]), is_ninth(rest(nine, [0]), (0, 1, 1))]
+[(1, 1, 1), True, False]
+
+>>> from pointrows.cubics import link_row, net_less
+>>> from pointrows.forms import letter_forms
+>>> x, y, z = letter_forms()
+>>> [net_less([x, x - z], [y, y - z], [3]).points(), link_row([1, 2, 1], 2, 3), link_row([1, 1], 2, 2)]
+[[(0, 0, 1), (0, 1, 1), (1, 0, 1)], [1, 1], [1, 1]]
 """
 
 

@@ -30,6 +30,11 @@ LISTED = {
     "hidden": {"hidden_form": "spots place", "hidden_points": "spots place"},
     "few": {"fails": "spots degree", "why_fails": "spots degree", "is_why_fails": "spots degree value"},
     "pairs": {"is_pair": "spots value", "box_degrees": "spots"},
+    "verdicts": {"pair": "spots", "is_all": "spots", "why_not": "spots", "is_why_not": "spots value"},
+    "nets": {"net": "lines others", "net_pair": "lines others", "meets": "form other spots"},
+    "left": {"rest": "spots positions", "rest_row": "spots positions", "is_last": "spots position value"},
+    "ninth": {"ninth": "spots", "is_ninth": "spots value"},
+    "cubics": {"net_less": "lines others positions", "link_row": "row first second"},
 }
 METHODS = {
     ("forms", "Form"): {"terms": "self", "times": "self number", "worth": "self point", "__add__": "self other",

@@ -139,6 +139,8 @@ class Language(unittest.TestCase):
         own = {one for _, _, tree in modules() for one in defined(tree)}
         own |= {node.name for _, _, tree in modules() for node in ast.walk(tree) if isinstance(node, ast.FunctionDef)}
         own |= {one for names in LIBRARY.values() for one in names}
+        # A parameter may be a function, or the class of a class method.
+        own |= {node.arg for _, _, tree in modules() for node in ast.walk(tree) if isinstance(node, ast.arg)}
         for name, _, tree in modules():
             for node in ast.walk(tree):
                 if isinstance(node, ast.Call) and isinstance(node.func, ast.Name):
