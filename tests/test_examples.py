@@ -140,6 +140,34 @@ True
 >>> x, y, z = letter_forms()
 >>> [net_less([x, x - z], [y, y - z], [3]).points(), link_row([1, 2, 1], 2, 3), link_row([1, 1], 2, 2)]
 [[(0, 0, 1), (0, 1, 1), (1, 0, 1)], [1, 1], [1, 1]]
+
+>>> from pointrows.forms import Form
+>>> from pointrows.texts import is_of, written
+>>> [written("point", [2, -4, 0]), written("form", Form(2, {(1, 0, 1): 1, (0, 2, 0): -3})), is_of("sum", [0, 0])]
+['point 1:-2:0\\n', 'form 2\\nterm 1:0:1 1\\nterm 0:2:0 -3\\n', False]
+
+>>> from pointrows.readers import read
+>>> [read("point 1:-2:0\\n"), read("spots\\nspot 0:0:1\\nspot 1:0:1\\n")[1].size, read("row 1,2,1\\n"), read("table 1,0,0;0,2,0;0,0,1\\n")]
+[('point', (1, -2, 0)), 2, ('row', [1, 2, 1]), ('table', ((1, 0, 0), (0, 2, 0), (0, 0, 1)))]
+
+>>> from pointrows.points import Spots
+>>> from pointrows.claims import contrary, is_paper_of, is_true
+>>> three, x = Spots([(0, 0, 1), (1, 0, 1), (2, 0, 1)]), Form(1, {(1, 0, 0): 1})
+>>> [is_true(("parts", three, 2, 1)), contrary(("free", three, 1))[0], is_paper_of(("bound", three, 1), [1, -2, 1]), is_paper_of(("misses", x, (2, 0, 1)), 2), is_paper_of(("broken", [1, 3]), 1)]
+[False, 'bound', True, True, True]
+
+>>> from pointrows.commands import is_command, is_deed
+>>> [is_command("spots s 0:0:1,2:0:2"), is_command("spots s 0:0:0"), is_command("form f 2 1:0:1*1,0:2:0*-3"), is_command("form f 2 1:0:1*1,1:0:1*2"), is_command("add s 1:-0:1")]
+[True, False, True, False, False]
+>>> [is_deed("take s 3"), is_deed("row s"), is_command("claim c parts s 0 2"), is_command("claim c parts s 0")]
+[True, False, True, False]
+
+>>> from pointrows.desk import Desk
+>>> desk = Desk()
+>>> desk.do_all("spots s 0:0:1,1:0:1,2:0:1,0:1:1", "claim f all s", "row s", "degrees s", "line x 0:0:1 1:0:1", "passed s x")
+['-', 'f false', '1 2 1', '2 2 2 1', '-', '0 1 2']
+>>> desk.do_all("take s 3", "whole s", "undo", "state f", "shown x", "still s")
+['f true', 'yes', 'take s 3', 'false', 'form 1 0:1:0*1', '-']
 """
 
 

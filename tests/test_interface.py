@@ -35,6 +35,12 @@ LISTED = {
     "left": {"rest": "spots positions", "rest_row": "spots positions", "is_last": "spots position value"},
     "ninth": {"ninth": "spots", "is_ninth": "spots value"},
     "cubics": {"net_less": "lines others positions", "link_row": "row first second"},
+    "texts": {"sorts": "", "is_of": "sort value", "written": "sort value"},
+    "readers": {"read": "text"},
+    "claims": {"words": "", "is_claim": "value", "is_true": "claim", "contrary": "claim", "paper_of": "claim",
+               "is_paper_of": "claim value"},
+    "commands": {"is_name": "value", "is_command": "value", "is_deed": "value"},
+    "desk": {"Desk": "", "Trial": "desk", "tried": "desk action"},
 }
 METHODS = {
     ("forms", "Form"): {"terms": "self", "times": "self number", "worth": "self point", "__add__": "self other",
@@ -43,8 +49,14 @@ METHODS = {
     ("points", "Spots"): {"points": "self", "place": "self point", "without": "self position",
                           "with_point": "self point", "__eq__": "self other", "__repr__": "self",
                           "__init__": "self points"},
+    ("desk", "Desk"): {"do": "self command", "__call__": "self command", "do_all": "self commands",
+                       "attempt": "self commands", "claim_of": "self label", "attach": "self label paper",
+                       "fits": "self label", "lines": "self", "copy": "self", "__len__": "self",
+                       "__getitem__": "self name", "__contains__": "self name", "__init__": "self"},
+    ("desk", "Trial"): {"__init__": "self desk", "__enter__": "self", "__exit__": "self kind value trace"},
 }
-PROPERTIES = {("forms", "Form"): ("degree", "is_nought"), ("points", "Spots"): ("size",)}
+PROPERTIES = {("forms", "Form"): ("degree", "is_nought"), ("points", "Spots"): ("size",),
+              ("desk", "Desk"): ("names", "labels"), ("desk", "Trial"): ()}
 
 
 def parameters(function):
@@ -69,6 +81,11 @@ class Interface(unittest.TestCase):
                 self.assertEqual(parameters(made[method]), wanted, method)
             for told in PROPERTIES[file, name]:
                 self.assertIsInstance(made[told], property)
+
+    def test_class_method(self):
+        desk = importlib.import_module("pointrows.desk").Desk
+        self.assertIsInstance(vars(desk)["again"], classmethod)
+        self.assertEqual(parameters(desk.again), "lines")
 
 
 if __name__ == "__main__":

@@ -3,6 +3,7 @@
 import ast
 import builtins
 import pathlib
+import re
 import unittest
 
 PACKAGE = pathlib.Path(__file__).resolve().parent.parent / "pointrows"
@@ -26,6 +27,21 @@ METHODS = set(
 DOUBLE = set(
     "__init__ __eq__ __repr__ __str__ __len__ __enter__ __exit__ __call__ __iter__ __add__ __sub__ __mul__ __neg__ "
     "__contains__ __getitem__ __bool__".split()
+)
+UNUSED = set(
+    "register mro elements open input law version_info with_traceback add_note attrgetter breakpoint builtins compile "
+    "copyright credits delattr dir eval exec exit gc getattr globals hasattr help id importlib license locals "
+    "methodcaller os quit setattr type vars sys".split()
+)
+UNUSED_WORDS = (
+    r"\b(type|typing|typing_extensions|enum|Enum|IntEnum|StrEnum|Flag|IntFlag|Generic|Protocol|ABC|ABCMeta|namedtuple|"
+    r"NamedTuple|TypedDict|TYPE_CHECKING|abstractmethod|_wall|_WallAttr)\b|dataclass|overload|contextmanager"
+)
+# A package with `__getitem__` must not have these anywhere; and none of the names of methods that L26 keeps for others.
+NOWHERE = r"\(type\)|Meta|metaclass="
+NO_ATTRIBUTES = set(
+    "items keys values pop update append clear extend insert remove reverse setdefault sort args encode decode hex "
+    "fromhex format".split()
 )
 BARRED = (ast.AsyncFunctionDef, ast.Await, ast.Global, ast.Import, ast.TryStar, ast.AsyncFor, ast.AsyncWith)
 TAKE_LISTS = {"any", "all", "sum", "min", "max", "sorted"}
@@ -107,10 +123,73 @@ class Language(unittest.TestCase):
             for node in ast.walk(tree):
                 if isinstance(node, ast.arg):
                     self.assertNotIn(node.arg, taken, name)
-                    self.assertFalse(node.arg in dir(builtins), (name, node.arg))
+                    self.assertFalse(node.arg != "_" and node.arg in dir(builtins), (name, node.arg))
                 if isinstance(node, ast.Name) and isinstance(node.ctx, ast.Store):
                     self.assertNotIn(node.id, taken, name)
                     self.assertFalse(node.id in BUILTINS, (name, node.id))
+
+    def test_names_that_are_not_used(self):
+        for name, text, tree in modules():
+            self.assertIsNone(re.search(NOWHERE, text), name)
+            for node in ast.walk(tree):
+                told = []
+                if isinstance(node, ast.Name):
+                    told = [node.id]
+                elif isinstance(node, (ast.FunctionDef, ast.ClassDef)):
+                    told = [node.name]
+                elif isinstance(node, ast.arg):
+                    told = [node.arg]
+                elif isinstance(node, ast.keyword):
+                    told = [node.arg or "x"]
+                for one in told:
+                    self.assertNotIn(one, UNUSED, name)
+                    self.assertRegex(one, r"^(__[a-z]+__|_|_?[A-Za-z][A-Za-z0-9_]*)$")
+                    self.assertIsNone(re.search(UNUSED_WORDS, one), (name, one))
+                if isinstance(node, ast.Constant) and isinstance(node.value, str) and "\n" not in node.value:
+                    if " " not in node.value:
+                        self.assertIsNone(re.search(UNUSED_WORDS, node.value), (name, node.value))
+
+    def test_functions_and_variables_are_no_builtins(self):
+        for name, _, tree in modules():
+            methods = {id(node) for made in ast.walk(tree) if isinstance(made, ast.ClassDef) for node in made.body}
+            for node in ast.walk(tree):
+                if isinstance(node, (ast.FunctionDef, ast.ClassDef)) and id(node) not in methods:
+                    self.assertFalse(node.name in dir(builtins), (name, node.name))
+                if isinstance(node, ast.FunctionDef) and id(node) in methods:
+                    self.assertNotIn(node.name, BUILTINS, name)
+                # Another test may have left a `_` among the builtins.
+                if isinstance(node, ast.Name) and isinstance(node.ctx, ast.Store) and node.id != "_":
+                    self.assertFalse(node.id in dir(builtins), (name, node.id))
+
+    def test_attributes_and_methods(self):
+        stored, read = set(), set()
+        for name, _, tree in modules():
+            for made in [node for node in tree.body if isinstance(node, ast.ClassDef)]:
+                own = {node.attr for node in ast.walk(made) if isinstance(node, ast.Attribute) and isinstance(node.ctx, ast.Store)}
+                methods = [node.name for node in made.body if isinstance(node, ast.FunctionDef)]
+                self.assertEqual(len(methods), len(set(methods)), made.name)
+                self.assertFalse(own & set(methods), made.name)
+                self.assertFalse(own & NO_ATTRIBUTES, made.name)
+                stored |= own | set(methods)
+                if "__getitem__" in methods:
+                    self.assertIn("__iter__", methods)
+            read |= {node.attr for node in ast.walk(tree) if isinstance(node, ast.Attribute) and isinstance(node.ctx, ast.Load)}
+        self.assertFalse({"keys"} & stored)
+        self.assertLessEqual(read, stored | METHODS)
+
+    def test_comparisons_and_iterators(self):
+        at_once = {"zip", "enumerate", "reversed", "range"}
+        for name, _, tree in modules():
+            parents = {child: node for node in ast.walk(tree) for child in ast.iter_child_nodes(node)}
+            for node in ast.walk(tree):
+                if isinstance(node, ast.Compare) and any(isinstance(one, (ast.Is, ast.IsNot)) for one in node.ops):
+                    self.assertTrue(all(isinstance(one, ast.Constant) for one in node.comparators), (name, node.lineno))
+                if isinstance(node, ast.Call) and isinstance(node.func, ast.Name) and node.func.id in at_once:
+                    above = parents[node]
+                    iterated = isinstance(above, (ast.For, ast.comprehension)) and above.iter is node
+                    passed_on = isinstance(above, ast.Call) and isinstance(above.func, ast.Name)
+                    passed_on = passed_on and above.func.id in at_once | {"list", "tuple", "sorted", "dict", "sum"}
+                    self.assertTrue(iterated or passed_on, (name, node.lineno))
 
     def test_statements(self):
         for name, _, tree in modules():
