@@ -153,7 +153,7 @@ class Readers(unittest.TestCase):
                 self.look(text + more, 2)
         for more in ("", "\n", "x", "spot", "spot\n", "spot \n", "spot 0:0:1", "spot 0:0:2\n", "spot 0:0:0\n", " spot 0:0:1\n",
                      "spot  0:0:1\n", "spot 0:0:1 \n", "spots\n", "point 0:0:1\n", "spot 0:0:-1\n", "spot 0:0\n", "term 0:0:1\n",
-                     "spot 0:-0:1\n", "spot 00:0:1\n"):
+                     "spot 0:-0:1\n", "spot 00:0:1\n", "0:0:1\n", "spot0:0:1\n", ":0:1\n"):
             self.look("spots\n" + more, 2)
         for more in ("\n", "x", "term", "term 2:0:0 1", "term 2:0:0 0\n", "term 2:0:0 -0\n", "term 2:0:0\n", "term 2:0:0 \n",
                      "term 2:0:0 01\n", "term 3:0:0 1\n", "term 1:0:0 1\n", "term 2:0 1\n", "term 2:0:0:0 1\n", "term -1:3:0 1\n",
@@ -174,6 +174,7 @@ class Readers(unittest.TestCase):
             self.look(most + more, 26)
         self.look("form 1\nterm 0:1:0 4\nterm 1:0:0 4\n", 3)
         self.look("form 1\nterm 0:1:0 4\nterm 0:1:0 4\n", 3)
+        self.look("form 1\nterm 0:1:0 4\nterm 0:1:0 4\nterm 0:0:1 4\n", 3)
         self.look("form 1\nterm 0:1:0 4\nterm 0:0:1 0\n", 3)
         self.look("form 1\nterm 0:1:0 4\nterm 0:0:1 1", 3)
         self.look("form 1\nterm 1:0:0 4\nterm 0:1:0 1\nterm 0:0:1 1\n\n", 5)
